@@ -1,4 +1,4 @@
-package tick
+package tick_test
 
 import (
 	"math"
@@ -6,6 +6,7 @@ import (
 	"testing"
 
 	"liftwell/api"
+	"liftwell/tick"
 )
 
 const top = api.MaxTime
@@ -59,7 +60,7 @@ func TestClamp(t *testing.T) {
 		{top - 1, 1<<40 - 1}, {top, 1 << 40}, {top + 1, 1 << 40}, {2 * top, 1 << 40},
 		{math.MaxInt - 1, 1 << 40}, {math.MaxInt, 1 << 40},
 	} {
-		if got := Clamp(x.n); got != x.want {
+		if got := tick.Clamp(x.n); got != x.want {
 			t.Errorf("Clamp(%d) = %d, want %d", x.n, got, x.want)
 		}
 	}
@@ -75,7 +76,7 @@ func TestAdd(t *testing.T) {
 		{math.MaxInt, 1, top}, {math.MaxInt, math.MaxInt, top}, {1 << 62, 1 << 62, top},
 		{math.MinInt, -1, 0}, {math.MinInt, math.MinInt, 0}, {math.MinInt, 12, 12},
 	} {
-		if got := Add(x.a, x.b); got != x.want {
+		if got := tick.Add(x.a, x.b); got != x.want {
 			t.Errorf("Add(%d, %d) = %d, want %d", x.a, x.b, got, x.want)
 		}
 	}
@@ -96,7 +97,7 @@ func TestMul(t *testing.T) {
 		{math.MinInt, math.MinInt, 0}, {math.MaxInt, math.MinInt, 0}, {math.MaxInt, 0, 0},
 		{math.MaxInt, 1, top}, {1, math.MaxInt, top}, {math.MaxInt, math.MaxInt, top},
 	} {
-		if got := Mul(x.a, x.b); got != x.want {
+		if got := tick.Mul(x.a, x.b); got != x.want {
 			t.Errorf("Mul(%d, %d) = %d, want %d", x.a, x.b, got, x.want)
 		}
 	}
@@ -113,7 +114,7 @@ func TestLate(t *testing.T) {
 		{top - 1, top, false}, {top, top, true}, {top, top - 1, true},
 		{top, top + 1, true}, {top, math.MaxInt, true}, {top - 1, top + 1, false}, {top + 1, top + 2, true},
 	} {
-		if got := Late(x.now, x.until); got != x.want {
+		if got := tick.Late(x.now, x.until); got != x.want {
 			t.Errorf("Late(%d, %d) = %t, want %t", x.now, x.until, got, x.want)
 		}
 	}
@@ -134,7 +135,7 @@ func TestPause(t *testing.T) {
 		{math.MaxInt, math.MaxInt, 0, top}, {math.MaxInt, math.MaxInt, math.MaxInt, top},
 		{1 << 62, 9, 1, 9}, {1 << 62, 9, 2, 9},
 	} {
-		if got := Pause(x.base, x.most, x.tries); got != x.want {
+		if got := tick.Pause(x.base, x.most, x.tries); got != x.want {
 			t.Errorf("Pause(%d, %d, %d) = %d, want %d", x.base, x.most, x.tries, got, x.want)
 		}
 	}
@@ -142,10 +143,10 @@ func TestPause(t *testing.T) {
 
 // TestChapter has the chapter's example.
 func TestChapter(t *testing.T) {
-	if got := Add(api.MaxTime, 1); got != api.MaxTime {
+	if got := tick.Add(api.MaxTime, 1); got != api.MaxTime {
 		t.Errorf("Add(MaxTime, 1) = %d", got)
 	}
-	if got := Pause(3, 100, 4); got != 48 {
+	if got := tick.Pause(3, 100, 4); got != 48 {
 		t.Errorf("Pause(3, 100, 4) = %d", got)
 	}
 }
@@ -153,22 +154,22 @@ func TestChapter(t *testing.T) {
 // TestAgainstNumbersWithoutBound holds every pair and triple of edges against numbers that have no bound.
 func TestAgainstNumbersWithoutBound(t *testing.T) {
 	for _, a := range numbers {
-		if got, want := Clamp(a), held(big.NewInt(int64(a))); got != want {
+		if got, want := tick.Clamp(a), held(big.NewInt(int64(a))); got != want {
 			t.Errorf("Clamp(%d) = %d, want %d", a, got, want)
 		}
 		for _, b := range numbers {
 			x, y := clamped(a), clamped(b)
-			if got, want := Add(a, b), held(new(big.Int).Add(x, y)); got != want {
+			if got, want := tick.Add(a, b), held(new(big.Int).Add(x, y)); got != want {
 				t.Errorf("Add(%d, %d) = %d, want %d", a, b, got, want)
 			}
-			if got, want := Mul(a, b), held(new(big.Int).Mul(x, y)); got != want {
+			if got, want := tick.Mul(a, b), held(new(big.Int).Mul(x, y)); got != want {
 				t.Errorf("Mul(%d, %d) = %d, want %d", a, b, got, want)
 			}
-			if got, want := Late(a, b), x.Cmp(y) >= 0; got != want {
+			if got, want := tick.Late(a, b), x.Cmp(y) >= 0; got != want {
 				t.Errorf("Late(%d, %d) = %t, want %t", a, b, got, want)
 			}
 			for _, n := range tries {
-				if got, want := Pause(a, b, n), pause(a, b, n); got != want {
+				if got, want := tick.Pause(a, b, n), pause(a, b, n); got != want {
 					t.Errorf("Pause(%d, %d, %d) = %d, want %d", a, b, n, got, want)
 				}
 			}
