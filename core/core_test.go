@@ -605,6 +605,27 @@ func TestMemory(t *testing.T) {
 	}
 }
 
+func TestAnswersStay(t *testing.T) {
+	k := core.New(setting)
+	asked := k.Ask(ask(3, 1, 1, 3))
+	granted, _ := k.Tick()
+	heard := hear(k, 3, api.Renew)
+	k.Ask(ask(4, 1, 1, 3))
+	k.Group().Hall(0, api.Up)
+	_, served := k.Tick()
+	hear(k, 4, api.Exited)
+	k.Group().Hall(3, api.Down)
+	if list := run(k, 200); len(list) < 3 {
+		t.Errorf("said %+v", list)
+	}
+	expect(t, "Ask, later", asked, said(3, api.Queued, 0))
+	expect(t, "Tick, later", granted, said(3, api.Grant, 0))
+	expect(t, "Hear, later", heard, said(3, api.Deny, 1))
+	if !slices.Equal(served, []api.Wait{{Call: api.Call{Floor: 0, Way: api.Up}, Car: 1, Since: 1}}) {
+		t.Errorf("served, later: %+v", served)
+	}
+}
+
 // model is a core by the chapter's words, with a group of its own.
 type model struct {
 	c      api.Config

@@ -534,6 +534,15 @@ func TestMemory(t *testing.T) {
 	if len(again) != 2 || again[0] != first {
 		t.Errorf("sent once more: %+v, first %+v", again, first)
 	}
+	ticks(t, g, 7)
+	come(t, g, framed(api.Packet{Session: 3, Epoch: 1, Ack: 1}))
+	late := do(t, g, api.StepTick, 0, 0)
+	was := packet(t, late[0].Data)
+	come(t, g, framed(hello(5, 9, 1), says(3, 1, 0, 1, api.Msg{Kind: api.Entered})))
+	ticks(t, g, 9)
+	if len(late) != 1 || late[0].Session != 4 || packet(t, late[0].Data) != was {
+		t.Errorf("an answer changes: %+v, was %+v", late, was)
+	}
 	lines := do(t, g, api.StepList, 0, 0)
 	lines[0].Data[0] = 'x'
 	if more := do(t, g, api.StepList, 0, 0); string(more[0].Data) != "0 0 0 0 0 0\n1 0 0 0 0 0\n" {
@@ -723,6 +732,48 @@ func same(t *testing.T, g *gateway.Gateway, m *model, s api.Step) []api.Packet {
 	return got
 }
 
+// lawful has the promises P2, P3 and P5 of a gateway, which was seen, and had leases, a step ago.
+func lawful(t *testing.T, c api.Config, g *gateway.Gateway, before []api.View, leases []api.Lease) {
+	t.Helper()
+	group := g.Core().Group()
+	views, list := g.Views(), g.Core().Leases()
+	ofSession, ofCar, ofFleet := map[int]int{}, map[int]int{}, map[int]int{}
+	for _, l := range list {
+		ofSession[l.Session]++
+		ofCar[l.Car]++
+		ofFleet[l.Fleet]++
+		if ofSession[l.Session] > 1 || ofCar[l.Car] > 1 || ofFleet[l.Fleet] > c.Quota {
+			t.Fatalf("leases %+v", list)
+		}
+		if v := views[l.Car]; (l.Phase == api.Board || l.Phase == api.Leave) && v.Mode != api.Broken && v.Door != api.Open {
+			t.Fatalf("%+v, but its car is %+v", l, v)
+		}
+	}
+	normal, broken := 0, 0
+	for car, v := range views {
+		switch v.Mode {
+		case api.Normal:
+			normal++
+		case api.Broken:
+			broken++
+		}
+		if v.Unit != before[car].Unit && (v.Door != api.Closed || before[car].Door != api.Closed) {
+			t.Fatalf("car %d moved with its door open: %+v, then %+v", car, before[car], v)
+		}
+		if v.Unit%4 != 0 && v.Door != api.Closed {
+			t.Fatalf("car %d is open between floors: %+v", car, v)
+		}
+	}
+	if broken == 0 && normal == 0 {
+		t.Fatalf("no car is people's: %+v", views)
+	}
+	for _, w := range group.Waits() {
+		if group.Now()-w.Since > c.Yield && len(list) > len(leases) {
+			t.Fatalf("granted, while %+v waits at %d", w, group.Now())
+		}
+	}
+}
+
 // drawnStep is a step of people, or of a fault.
 func drawnStep(r *rand.Rand, c api.Config) api.Step {
 	kind := api.StepHall + r.Intn(5)
@@ -754,7 +805,10 @@ func TestDrawnAgainstModel(t *testing.T) {
 		loses := r.Intn(4)
 		var late [][]byte
 		for range 400 {
-			for _, p := range same(t, g, m, api.Step{Kind: api.StepTick}) {
+			views, leases := g.Views(), g.Core().Leases()
+			list := same(t, g, m, api.Step{Kind: api.StepTick})
+			lawful(t, c, g, views, leases)
+			for _, p := range list {
 				if r.Intn(10) >= loses {
 					robots[p.Session/2].hear(p, g.Core().Group().Now())
 				}

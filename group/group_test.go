@@ -452,6 +452,16 @@ func TestMemory(t *testing.T) {
 	}
 }
 
+func TestAnswersStay(t *testing.T) {
+	g := group.New(setting)
+	g.Hall(0, api.Up)
+	first := g.Tick()
+	g.Hall(3, api.Down)
+	if later := run(g, 60); len(later) != 1 || !slices.Equal(first, []api.Wait{wait(0, api.Up, 0, 0)}) {
+		t.Errorf("an answer changes: %+v, later %+v", first, later)
+	}
+}
+
 func TestNow(t *testing.T) {
 	g := group.New(setting)
 	for n := range 50 {
